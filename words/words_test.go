@@ -134,6 +134,23 @@ func TestEveryCodePoint(t *testing.T) {
 	}
 }
 
+// What is made at start-up is what Fold does with each code point.
+func TestSpellings(t *testing.T) {
+	m := wanted()
+	for r := rune(0xDF); r <= 0xFF; r++ {
+		want, ok := m[r]
+		if !ok {
+			want = " "
+		}
+		if x := spellings[r-0xDF]; x != want {
+			t.Errorf("spellings %U: %q", r, x)
+		}
+	}
+	if len(spellings) != 0xFF-0xDF+1 {
+		t.Error("spellings", len(spellings))
+	}
+}
+
 func TestFoldExamples(t *testing.T) {
 	m := wanted()
 	for i, x := range []struct{ s, want string }{
